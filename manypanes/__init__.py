@@ -1,0 +1,1 @@
+"""Manypanes: terminals and a terminal multiplexer."""
