@@ -1,4 +1,8 @@
-"""Points: the numbers of characters, how wide they are and their bytes."""
+"""Points and cells: the numbers of characters, how wide they are, their bytes and their cells."""
+
+BLANK = (32, (-1, -1, 0))
+GAP = (-1, (-1, -1, 0))
+RIGHT_HALF = 0
 
 WIDE_RANGES = (
     (4352, 4447),
@@ -37,3 +41,10 @@ def utf8(point):
     if point < 65536:
         return [224 + point // 4096, second_last, last]
     return [240 + point // 262144, 128 + point // 4096 % 64, second_last, last]
+
+
+def character(point, style):
+    """Returns the cells of a character, a list of one or two."""
+    if is_wide(point):
+        return [(point, style), (RIGHT_HALF, style)]
+    return [(point, style)]

@@ -15,11 +15,15 @@ BUILTINS = [name for name in dir(builtins) if not name.startswith("__")]
 # The names of the interface that have landed, file by file.
 FUNCTIONS = {
     "cells.py": ["is_point", "is_wide", "utf8"],
+    "styles.py": ["styled"],
+    "picture.py": ["difference"],
 }
 CLASSES = {
     "errors.py": {"PaneError": [], "NoPane": [], "NoRoom": [], "LastPane": [],
                   "NoWindow": [], "NoClient": []},
     "parser.py": {"Parser": ["take", "resting"]},
+    "picture.py": {"Picture": ["__init__", "__eq__"]},
+    "terminal.py": {"Terminal": ["__init__", "feed", "resize", "picture", "state", "resting", "text", "answers"]},
 }
 
 
