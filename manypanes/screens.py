@@ -29,6 +29,18 @@ class Screens:
         """Returns a row that is shown."""
         return self.shown_rows()[at]
 
+    def depth(self):
+        """Returns the number of rows by which the shown screen can be scrolled back."""
+        if self.shown == MAIN:
+            return len(self.history)
+        return 0
+
+    def rows_back(self, many):
+        """Returns the rows, as many as the screen has, that end a number of rows above the end of the main screen."""
+        rows = self.history + self.main
+        behind = len(rows) - many
+        return rows[behind - len(self.main):behind]
+
     def set_above(self, at, continued):
         """Sets whether the row above a row is continued, if there is one."""
         if at > 0:

@@ -38,13 +38,24 @@ class Terminal:
     def picture(self):
         """Returns the picture that the terminal shows."""
         display = self._display
-        rows = []
-        for row in display.screens.shown_rows():
-            rows.append([BLANK if cell == GAP else cell for cell in row.cells])
+        rows = cells_shown(display.screens.shown_rows())
         cursor = (0, 0)
         if display.visible:
             cursor = (display.row, display.column)
         return Picture(display.width, display.height, rows, cursor, display.visible)
+
+    def scrolled(self, many):
+        """Returns the picture, scrolled back by a number of rows or, if they are fewer, by all of the history."""
+        display = self._display
+        many = min(many, display.screens.depth())
+        if many < 1:
+            return self.picture()
+        rows = cells_shown(display.screens.rows_back(many))
+        return Picture(display.width, display.height, rows, (0, 0), False)
+
+    def heading(self):
+        """Returns the title, a tuple of bytes."""
+        return self._title
 
     def state(self):
         """Returns the state, apart from the parser and the answers."""
@@ -260,6 +271,11 @@ def second_of(numbers):
     if len(numbers) > 1:
         return numbers[1]
     return 0
+
+
+def cells_shown(rows):
+    """Returns the cells of rows as a picture shows them, a list of lists."""
+    return [[BLANK if cell == GAP else cell for cell in row.cells] for row in rows]
 
 
 def rows_told(rows):

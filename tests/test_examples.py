@@ -39,6 +39,29 @@ EXAMPLES = {
 >>> [[cell[0] for cell in row] for row in t.picture().rows]
 [[97, 98, 99], [100, 101, 32]]
 """,
+    "layout, sharing": """
+>>> from manypanes.layout import share
+>>> share(20, [2, 2, 1], [5, 9, 1])
+[6, 11, 1]
+""",
+    "layout, splitting": """
+>>> from manypanes.layout import boxes, divided
+>>> boxes(divided(1, 9, 4, 1, "beside", 2), 9, 4)
+[(1, 0, 0, 4, 4), (2, 0, 5, 4, 4)]
+""",
+    "session, splitting": """
+>>> from manypanes.session import Session
+>>> s = Session(9, 4)
+>>> (s.divide(1, "beside"), s.places())
+(2, [(1, 0, 0, 4, 3), (2, 0, 5, 4, 3)])
+""",
+    "session, the status row": """
+>>> from manypanes.session import Session
+>>> s = Session(9, 4)
+>>> s.write(1, [104, 105])
+>>> [cell[0] for cell in s.picture().rows[3]][:4]
+[91, 49, 93, 32]
+""",
 }
 
 

@@ -12,11 +12,13 @@ BARRED_NAMES = re.compile(r"law_.*|tests?|testing|test_.*|site|conftest|sitecust
 
 BUILTINS = [name for name in dir(builtins) if not name.startswith("__")]
 
-# The names of the interface that have landed, file by file.
+# The names of the interface, file by file.
 FUNCTIONS = {
     "cells.py": ["is_point", "is_wide", "utf8"],
     "styles.py": ["styled"],
     "picture.py": ["difference"],
+    "drawing.py": ["draw"],
+    "layout.py": ["least", "share", "fitted", "boxes", "divided", "without", "moved", "panes"],
 }
 CLASSES = {
     "errors.py": {"PaneError": [], "NoPane": [], "NoRoom": [], "LastPane": [],
@@ -24,6 +26,9 @@ CLASSES = {
     "parser.py": {"Parser": ["take", "resting"]},
     "picture.py": {"Picture": ["__init__", "__eq__"]},
     "terminal.py": {"Terminal": ["__init__", "feed", "resize", "picture", "state", "resting", "text", "answers"]},
+    "session.py": {"Session": ["__init__", "write", "press", "taken", "divide", "close", "focus", "border", "zoom",
+                               "window", "show", "back", "size", "places", "screen", "picture", "attach", "detach",
+                               "refit", "seen", "pull"]},
 }
 
 
